@@ -1,0 +1,1 @@
+"""Pagemaker: a site made of sources and templates, and made anew least."""
