@@ -39,9 +39,14 @@ def is_line(thing, most):
     return is_text(thing, most) and "\n" not in thing
 
 
+def is_number(thing):
+    """Whether it is a number, below 0 too; True and False are none, though Python counts them so."""
+    return isinstance(thing, int) and not isinstance(thing, bool)
+
+
 def is_day(thing):
-    """Whether it is a number to 999; True and False are none, though Python counts them so."""
-    return isinstance(thing, int) and not isinstance(thing, bool) and 0 <= thing <= LAST_DAY
+    """Whether it is a number to 999."""
+    return is_number(thing) and 0 <= thing <= LAST_DAY
 
 
 def number_in(text, most):

@@ -24,6 +24,12 @@ BARRED_NODES = (
     ast.GeneratorExp, ast.Match, ast.Yield, ast.YieldFrom,
 )
 DOUBLE_UNDERSCORE = {"__init__", "__eq__", "__repr__", "__str__", "__len__"}
+METHODS = set(
+    "append clear copy count endswith extend find get index insert isalnum isalpha isdigit islower isspace isupper "
+    "items join keys ljust lower lstrip partition pop remove replace reverse rfind rjust rpartition rsplit rstrip "
+    "setdefault split splitlines startswith strip update upper values zfill bit_length".split()
+)
+BUILTIN_NAMES = {name for kind in (str, int, list, dict, set, bytes, tuple) for name in dir(kind)}
 
 
 def files():
@@ -109,6 +115,33 @@ class LanguageTest(unittest.TestCase):
         for name, node in nodes(ast.FunctionDef):
             plain = not node.name.startswith("_") or node.name in DOUBLE_UNDERSCORE
             self.assertTrue(plain and not node.decorator_list, (name, node.name, "L5"))
+
+    def test_methods_and_attributes(self):
+        bodies = [node.body for name, node in nodes(ast.ClassDef)]
+        methods = {part.name for body in bodies for part in body if isinstance(part, ast.FunctionDef)}
+        methods -= DOUBLE_UNDERSCORE
+        stored = {node.attr for name, node in nodes(ast.Attribute) if isinstance(node.ctx, ast.Store)}
+        read = {node.attr for name, node in nodes(ast.Attribute) if isinstance(node.ctx, ast.Load)}
+        self.assertEqual(methods & stored, set(), "L18")
+        self.assertEqual((methods | stored) & BUILTIN_NAMES, set(), "L26")
+        self.assertEqual(read - methods - stored - METHODS - DOUBLE_UNDERSCORE, set(), "L18, L25")
+
+    def test_names_of_imports_and_classes_are_used_for_nothing_else(self):
+        for path, text in files():
+            tree = ast.parse(text)
+            bound = {alias.name for node in tree.body if isinstance(node, ast.ImportFrom) for alias in node.names}
+            bound |= {node.name for node in tree.body if isinstance(node, ast.ClassDef)}
+            inner = {node.arg for node in ast.walk(tree) if isinstance(node, ast.arg)}
+            inner |= {
+                node.id for node in ast.walk(tree) if isinstance(node, ast.Name) and not isinstance(node.ctx, ast.Load)
+            }
+            self.assertEqual(bound & inner, set(), (path.name, "L15"))
+
+    def test_imports_are_used(self):
+        for path, text in files():
+            tree = ast.parse(text)
+            bound = {alias.name for node in tree.body if isinstance(node, ast.ImportFrom) for alias in node.names}
+            self.assertEqual(bound - {node.id for node in ast.walk(tree) if isinstance(node, ast.Name)}, set(), path)
 
     def test_is(self):
         for name, node in nodes(ast.Compare):

@@ -2,7 +2,7 @@ import itertools
 import re
 import unittest
 
-from pagemaker.words import escaped, is_line, is_name, is_path, is_text, number_in, plain_of
+from pagemaker.words import escaped, is_line, is_name, is_number, is_path, is_text, number_in, plain_of
 from things import OTHER_THINGS
 
 
@@ -139,6 +139,14 @@ class TextTest(unittest.TestCase):
     def test_other_things(self):
         for thing in OTHER_THINGS:
             self.assertIs(is_text(thing, 9), isinstance(thing, str), thing)
+
+
+class NumberTest(unittest.TestCase):
+    def test_numbers(self):
+        for number in (0, 1, -1, 999, 10 ** 30):
+            self.assertIs(is_number(number), True)
+        for thing in (True, False, None, "1", "", [1], (1,)):
+            self.assertIs(is_number(thing), False)
 
 
 class NumberInTest(unittest.TestCase):
