@@ -23,6 +23,12 @@ def lead_address(facts, path):
     return None if led is None else page_address(led)
 
 
+def to_text(facts, path):
+    """The address to which the path leads, a word of its own where it leads nowhere."""
+    address = lead_address(facts, path)
+    return NOWHERE if address is None else address
+
+
 def body_text(facts, path):
     """The rows of the page as marked text."""
     blocks = blocks_of(facts.ask(("rows", path)))
@@ -58,8 +64,7 @@ def piece_filled(facts, piece, path, inner):
     if word == "pages":
         return "".join([filled(facts, piece[2], other, "") for other in facts.ask(("tag", piece[1]))])
     if word == "to":
-        address = lead_address(facts, piece[1])
-        return NOWHERE if address is None else address
+        return to_text(facts, piece[1])
     return pieces_filled(facts, piece[2], path, inner) if piece[1] in facts.ask(("tags", path)) else ""
 
 

@@ -33,9 +33,11 @@ def site_of(templates, sources=(), *, today=9, most=4):
 
 
 def chance_template(chance, names, tags, paths):
-    """A template by chance, of not many pieces, so that pages at fault aren't all that there is."""
+    """A template by chance, of not many pieces, so that pages at fault aren't all that there is; maybe of no names."""
+    words = ("plain", "title", "path", "day", "tags", "body", "inner", "to", "when") + ("use", "pages") * bool(names)
+
     def piece():
-        word = chance.choice(("plain", "title", "path", "day", "tags", "body", "inner", "use", "pages", "to", "when"))
+        word = chance.choice(words)
         if word == "plain":
             return chance.choice(("x", "\n", "<hr>"))
         if word == "use":
@@ -53,6 +55,17 @@ def chance_template(chance, names, tags, paths):
             return template_in(f"in {holder}\n" + "".join([piece() for at in range(chance.randrange(5))]))
         except BadText:
             pass
+
+
+def chance_layers(chance, names, tags, paths):
+    """A Site by chance in which each template calls only names behind its own, so that most pages are filled."""
+    site = Site(today=2, most=2)
+    for at, name in enumerate(names):
+        site.hang(name, chance_template(chance, names[at + 1:], tags, paths))
+    for path in paths:
+        if chance.randrange(4):
+            site.put(path, chance_source(chance, names, tags, paths))
+    return site
 
 
 def chance_source(chance, names, tags, paths):

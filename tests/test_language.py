@@ -143,6 +143,30 @@ class LanguageTest(unittest.TestCase):
             bound = {alias.name for node in tree.body if isinstance(node, ast.ImportFrom) for alias in node.names}
             self.assertEqual(bound - {node.id for node in ast.walk(tree) if isinstance(node, ast.Name)}, set(), path)
 
+    def test_finally(self):
+        """Only what L6 lets stand there; a test is only ever `is None` or `is not None`, as a class has __eq__."""
+        simple = (ast.Name, ast.Attribute, ast.Constant, ast.List, ast.Tuple, ast.BinOp, ast.Add, ast.Load, ast.Store)
+        barred = (ast.Call, ast.Return, ast.Raise, ast.For, ast.While, ast.Try, ast.Delete, ast.Assert, ast.Subscript,
+                  ast.JoinedStr, ast.Dict, ast.Starred, ast.AnnAssign)
+        for name, node in nodes(ast.Try):
+            for part in [part for row in node.finalbody for part in ast.walk(row)]:
+                if isinstance(part, ast.Expr):
+                    self.assertIn(part.value.func.attr, ("append", "clear"), (name, part.lineno, "L6"))
+                    self.assertIsInstance(part.value.args[0], simple, (name, part.lineno, "L6"))
+                elif isinstance(part, barred):
+                    self.assertTrue(
+                        isinstance(part, ast.Call) and part.func.attr in ("append", "clear"), (name, part.lineno, "L6"))
+                elif isinstance(part, ast.Compare):
+                    self.assertIsInstance(part.ops[0], (ast.Is, ast.IsNot), (name, part.lineno, "L6"))
+                elif isinstance(part, ast.If):
+                    self.assertIsInstance(part.test, (ast.Compare, ast.BoolOp), (name, part.lineno, "L6"))
+
+    def test_handlers_name_own_errors(self):
+        own = {node.name for name, node in nodes(ast.ClassDef) if name == "errors.py"}
+        for name, node in nodes(ast.ExceptHandler):
+            caught = node.type.elts if isinstance(node.type, ast.Tuple) else [node.type]
+            self.assertEqual([kind.id for kind in caught if kind.id not in own], [], (name, node.lineno, "L19"))
+
     def test_is(self):
         for name, node in nodes(ast.Compare):
             for sign, other in zip(node.ops, node.comparators):
