@@ -31,7 +31,7 @@ def wrong_deed(deeds):
 
 
 def do_on(site, deed):
-    """One of the deeds that a Site has is done on it; refused as there."""
+    """One of the deeds that a Site has is done on it, or on a Maker, which has these, too; refused as there."""
     word = deed[0]
     if word == "put":
         site.put(deed[1], deed[2])

@@ -49,12 +49,21 @@ def is_day(thing):
     return is_number(thing) and 0 <= thing <= LAST_DAY
 
 
+def figures_in(text):
+    """The number that plain figures tell, however many; None where the text is no such figures."""
+    if text == "" or not all([sign in FIGURES for sign in text]) or (text[0] == "0" and text != "0"):
+        return None
+    number = 0
+    # One by one, as int() itself refuses very long texts.
+    for sign in text:
+        number = number * 10 + int(sign)
+    return number
+
+
 def number_in(text, most):
     """The number, at most so great, that plain figures tell; None where the text is no such figures."""
-    if text == "" or len(text) > len(str(most)) or not all([sign in FIGURES for sign in text]):
-        return None
-    number = int(text)
-    return number if number <= most and str(number) == text else None
+    number = figures_in(text)
+    return None if number is None or number > most else number
 
 
 def escaped(text):

@@ -2,7 +2,7 @@ import itertools
 import re
 import unittest
 
-from pagemaker.words import escaped, is_line, is_name, is_number, is_path, is_text, number_in, plain_of
+from pagemaker.words import escaped, figures_in, is_line, is_name, is_number, is_path, is_text, number_in, plain_of
 from things import OTHER_THINGS
 
 
@@ -162,6 +162,13 @@ class NumberInTest(unittest.TestCase):
     def test_others(self):
         for text in ("", "00", "01", "007", "1000", "-1", "+1", " 1", "1 ", "1_0", "a", "1.", "9" * 5000, "\u00b2"):
             self.assertIsNone(number_in(text, 999), text)
+
+    def test_figures_however_many(self):
+        for number in (0, 1, 9, 10, 101, 999, 1000, 10 ** 30, 10 ** 4000 + 7):
+            self.assertEqual(figures_in(str(number)), number)
+        self.assertEqual(figures_in("9" * 5000), 10 ** 5000 - 1)
+        for text in ("", "00", "01", "-1", "+1", " 1", "1 ", "1_0", "a", "1.", "0" * 5000, "\u00b2", "1\n"):
+            self.assertIsNone(figures_in(text), text)
 
 
 if __name__ == "__main__":
