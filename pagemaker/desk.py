@@ -12,7 +12,7 @@ from pagemaker.words import is_name, is_path, number_in
 
 # The words with which rows begin, each with the kinds of those that stand behind it.
 FORMS = {
-    "put": ("path", "many"), "hang": ("name", "many"), "drop": ("path",), "move": ("path", "path"),
+    "put": ("path", "number"), "hang": ("name", "number"), "drop": ("path",), "move": ("path", "path"),
     "unhang": ("name",), "today": ("number",), "most": ("number",), "undo": (), "make": (),
     "pages": (), "tags": (), "lead": ("path",), "page": ("address",), "broken": (), "rings": (),
     "against": ("name",), "built": (),
@@ -33,8 +33,7 @@ def thing_in(kind, word):
         return word if is_name(word) else None
     if kind == "address":
         return word if word != "" else None
-    number = number_in(word, DESK_NUMBER)
-    return None if kind == "many" and number == 0 else number
+    return number_in(word, DESK_NUMBER)
 
 
 def command_in(row):
@@ -57,6 +56,7 @@ def command_at(rows, at):
     if command[0] not in ("put", "hang"):
         return (command, 1)
     word, name, many = command
+    # A put or a hang of no rows is refused with all others: the empty text is neither's.
     thing = source_behind(rows, at, many) if word == "put" else template_behind(rows, at, many)
     if thing is None:
         raise BadRow(at)
