@@ -1,13 +1,14 @@
 import random
+import re
 import unittest
 
 from checks import chance_deed, chance_layers, check_refused, site_of, state_of
-from pagemaker.errors import BadRow
+from pagemaker.errors import BadRow, BadText
 from pagemaker.sites import Site
 from pagemaker.sitetext import site_in, site_text
 from pagemaker.sources import source_of
-from pagemaker.sourcetext import source_text
-from pagemaker.templatetext import template_text
+from pagemaker.sourcetext import source_in, source_text
+from pagemaker.templatetext import template_in, template_text
 
 TEXT = """today 7
 most 3
@@ -221,16 +222,66 @@ class BadRowTest(unittest.TestCase):
         self.refused(2, "today 1", "most 4", "source a x", "x")
         self.refused(4, "today 1", "most 4", *source_rows("a"), "source c 1", "x", "x", "x")
 
+    def check_other(self, rows):
+        """The text of no Site, or of one whose text it is; whether it is one."""
+        wrong = first_wrong(rows)
+        if wrong is None:
+            self.assertEqual(site_text(site_in("\n".join(rows))), "\n".join(rows))
+        else:
+            self.refused(wrong, *rows)
+        return wrong is None
+
     def test_each_row_of_a_text_left_out_or_twice(self):
-        """The text of no Site, or of another one, whose text it is."""
         rows = TEXT.split("\n")
         for at in range(len(rows)):
-            for other in (rows[:at] + rows[at + 1:], rows[:at] + rows[at:at + 1] + rows[at:], rows[:at]):
-                text = "\n".join(other)
-                try:
-                    self.assertEqual(site_text(site_in(text)), text)
-                except BadRow as error:
-                    self.assertLessEqual(error.row, len(other))
+            self.check_other(rows[:at] + rows[at + 1:])
+            self.check_other(rows[:at + 1] + rows[at:])
+            self.check_other(rows[:at] or [""])
+
+    def test_texts_that_are_somewhat_otherwise(self):
+        chance = random.Random(26)
+        told = []
+        for time in range(1500):
+            rows = TEXT.split("\n")
+            for step in range(chance.randrange(1, 3)):
+                at = chance.choice((0, 1, 2, 9, 11, 17, 21, chance.randrange(len(rows)))) % len(rows)
+                row = rows[at]
+                place = chance.randrange(len(row) + 1)
+                rows[at:at + 1] = chance.choice((
+                    [row[:place] + row[place + 1:]], [row[:place] + chance.choice(" 0129abz/{}\n") + row[place:]],
+                    [row, chance.choice(rows)], [row.replace("a", "b")], [row.replace("1", "2")], [row[:-1] + "3"],
+                ))
+            told.append(self.check_other("\n".join(rows).split("\n")))
+        self.assertGreater(told.count(True), 100)
+        self.assertGreater(told.count(False), 500)
+
+
+def first_wrong(rows):
+    """The row with which a text is refused, told a second time; None where it isn't."""
+    if not re.fullmatch(r"today (0|[1-9][0-9]{0,2})", rows[0]):
+        return 0
+    if len(rows) == 1 or not re.fullmatch("most [1-9]", rows[1]):
+        return 1
+    at, found = 2, {"source": [], "template": []}
+    while at < len(rows):
+        written = re.fullmatch(
+            r"(?:(source) (?!tag[/ ])([a-z]{1,8}(?:/[a-z]{1,8}){0,2})|(template) ([a-z]{1,8})) ([1-9][0-9]*)", rows[at])
+        if written is None:
+            return at
+        word, called = (part for part in written.groups()[:4] if part is not None)
+        many = int(written.group(5))
+        found[word].append(called)
+        if (
+            (word == "source" and found["template"]) or found[word] != sorted(set(found[word]))
+            or len(found[word]) > {"source": 12, "template": 8}[word] or len(rows) <= at + many
+        ):
+            return at
+        try:
+            (source_in if word == "source" else template_in)("\n".join(rows[at + 1:at + 1 + many]))
+        except (BadRow, BadText):
+            return at
+        at += 1 + many
+    return None
 
 
 if __name__ == "__main__":
